@@ -82,21 +82,10 @@ func TestP101CheckLengthComesFirst(t *testing.T) {
 	}
 }
 
-func TestP101CheckEveryByte(t *testing.T) {
-	for c := range 256 {
-		s := "1" + string([]byte{byte(c)}) + "2"
-		want := api.ErrVer
-		if form.MatchString(s) {
-			want = api.OK
-		}
-		if err := ver.Check(s); err != want {
-			t.Errorf("Check(%q): %v; want %v", s, err, want)
-		}
-	}
-}
-
-func TestP101CheckAgainstForm(t *testing.T) {
-	for _, s := range words("09aZ.~:-_", 6) {
+// holdAgainstForm stops at the first of all that Check and form see differently.
+func holdAgainstForm(t *testing.T, all []string) {
+	t.Helper()
+	for _, s := range all {
 		want := api.ErrVer
 		if form.MatchString(s) {
 			want = api.OK
@@ -105,6 +94,18 @@ func TestP101CheckAgainstForm(t *testing.T) {
 			t.Fatalf("Check(%q): %v; want %v", s, err, want)
 		}
 	}
+}
+
+func TestP101CheckEveryByte(t *testing.T) {
+	var all []string
+	for c := range 256 {
+		all = append(all, "1"+string([]byte{byte(c)})+"2")
+	}
+	holdAgainstForm(t, all)
+}
+
+func TestP101CheckAgainstForm(t *testing.T) {
+	holdAgainstForm(t, words("09aZ.~:-_", 6))
 }
 
 func TestP101Canon(t *testing.T) {
