@@ -4,6 +4,7 @@ import (
 	"strings"
 
 	"manciple/api"
+	"manciple/fault"
 )
 
 const (
@@ -19,9 +20,7 @@ type version struct {
 
 // parse cuts s into its pieces and panics with an api.Errno if it is no version.
 func parse(s string) version {
-	if len(s) > api.MaxVer {
-		panic(api.ErrLong)
-	}
+	fault.Require(len(s) <= api.MaxVer, api.ErrLong)
 	v := version{epoch: "0", part: s, revision: "0"}
 	if before, after, found := strings.Cut(v.part, ":"); found {
 		v.epoch, v.part = before, after
@@ -36,24 +35,18 @@ func parse(s string) version {
 }
 
 func requireEpoch(s string) {
-	require(s != "" && len(s) <= maxEpochDigits)
+	fault.Require(s != "" && len(s) <= maxEpochDigits, api.ErrVer)
 	for i := range len(s) {
-		require(isDigit(s[i]))
+		fault.Require(isDigit(s[i]), api.ErrVer)
 	}
 }
 
 // requirePart looks at single bytes only: with a digit at both ends, runs of
 // digits and of other characters alternate by themselves.
 func requirePart(s string) {
-	require(s != "" && isDigit(s[0]) && isDigit(s[len(s)-1]))
+	fault.Require(s != "" && isDigit(s[0]) && isDigit(s[len(s)-1]), api.ErrVer)
 	for i := range len(s) {
-		require(isDigit(s[i]) || isOther(s[i]))
-	}
-}
-
-func require(holds bool) {
-	if !holds {
-		panic(api.ErrVer)
+		fault.Require(isDigit(s[i]) || isOther(s[i]), api.ErrVer)
 	}
 }
 

@@ -5,18 +5,19 @@ import (
 	"strconv"
 
 	"manciple/api"
+	"manciple/fault"
 )
 
 // Check tells whether s is a version.
 func Check(s string) (err api.Errno) {
-	defer func() { err = raised(recover()) }()
+	defer func() { err = fault.Raised(recover(), api.ErrVer) }()
 	parse(s)
 	return api.OK
 }
 
 // Canon writes a version in its canonical form.
 func Canon(s string) (canon string, err api.Errno) {
-	defer func() { err = raised(recover()) }()
+	defer func() { err = fault.Raised(recover(), api.ErrVer) }()
 	return parse(s).text(), api.OK
 }
 
@@ -32,17 +33,4 @@ func Epoch(s string) (number int) {
 	defer func() { recover() }()
 	number, _ = strconv.Atoi(parse(s).epoch)
 	return number
-}
-
-// raised returns the error with which a panic was raised, OK for none.
-func raised(fault any) api.Errno {
-	switch e := fault.(type) {
-	case nil:
-		return api.OK
-	case api.Errno:
-		return e
-	}
-	// By P1 no panic leaves the package, and what was not read to its end
-	// must not pass for a version.
-	return api.ErrVer
 }
