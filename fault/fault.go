@@ -4,6 +4,12 @@ package fault
 
 import "manciple/api"
 
+// placed is an error that tells where in a list or a text it lies.
+type placed struct {
+	place int
+	err   api.Errno
+}
+
 // Require panics with err unless the condition holds.
 func Require(holds bool, err api.Errno) {
 	if !holds {
@@ -11,15 +17,31 @@ func Require(holds bool, err api.Errno) {
 	}
 }
 
+// RequireAt panics with err and its place unless the condition holds.
+func RequireAt(holds bool, place int, err api.Errno) {
+	if !holds {
+		panic(placed{place, err})
+	}
+}
+
 // Raised returns the error with which a panic was raised, OK if there was no
 // panic. By P1 no panic leaves a package, and what was not read to its end must
 // not pass for good: any other panic is answered by the error other.
 func Raised(recovered any, other api.Errno) api.Errno {
-	switch err := recovered.(type) {
+	_, err := RaisedAt(recovered, other)
+	return err
+}
+
+// RaisedAt returns what Raised does and the place that the panic named, 0 if it
+// named none.
+func RaisedAt(recovered any, other api.Errno) (place int, err api.Errno) {
+	switch raised := recovered.(type) {
 	case nil:
-		return api.OK
+		return 0, api.OK
 	case api.Errno:
-		return err
+		return 0, raised
+	case placed:
+		return raised.place, raised.err
 	}
-	return other
+	return 0, other
 }

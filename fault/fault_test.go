@@ -23,20 +23,36 @@ func TestRaisedLetsNoPanicPassForOK(t *testing.T) {
 		if err := fault.Raised(c.recovered, api.ErrForm); err != c.want {
 			t.Errorf("Raised(%v): %v; want %v", c.recovered, err, c.want)
 		}
+		if place, err := fault.RaisedAt(c.recovered, api.ErrForm); place != 0 || err != c.want {
+			t.Errorf("RaisedAt(%v): %d, %v; want 0, %v", c.recovered, place, err, c.want)
+		}
 	}
 }
 
 func TestRequire(t *testing.T) {
-	if err := raisedBy(true); err != api.OK {
-		t.Errorf("Require raised %v for a condition that holds", err)
-	}
-	if err := raisedBy(false); err != api.ErrLong {
-		t.Errorf("Require raised %v; want %v", err, api.ErrLong)
+	for _, c := range []struct {
+		run   func()
+		place int
+		err   api.Errno
+	}{
+		{func() { fault.Require(true, api.ErrLong) }, 0, api.OK},
+		{func() { fault.Require(false, api.ErrLong) }, 0, api.ErrLong},
+		{func() { fault.RequireAt(true, 7, api.ErrLong) }, 0, api.OK},
+		{func() { fault.RequireAt(false, 0, api.ErrLong) }, 0, api.ErrLong},
+		{func() { fault.RequireAt(false, 7, api.ErrVer) }, 7, api.ErrVer},
+	} {
+		recovered := recoveredFrom(c.run)
+		if err := fault.Raised(recovered, api.ErrForm); err != c.err {
+			t.Errorf("Raised: %v; want %v", err, c.err)
+		}
+		if place, err := fault.RaisedAt(recovered, api.ErrForm); place != c.place || err != c.err {
+			t.Errorf("RaisedAt: %d, %v; want %d, %v", place, err, c.place, c.err)
+		}
 	}
 }
 
-func raisedBy(holds bool) (err api.Errno) {
-	defer func() { err = fault.Raised(recover(), api.ErrForm) }()
-	fault.Require(holds, api.ErrLong)
-	return api.OK
+func recoveredFrom(run func()) (recovered any) {
+	defer func() { recovered = recover() }()
+	run()
+	return nil
 }
