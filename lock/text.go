@@ -6,10 +6,10 @@ import (
 
 	"manciple/api"
 	"manciple/fault"
+	"manciple/split"
 )
 
 const (
-	lineEnd   = "\n"
 	separator = " "
 	sumWord   = "sum"
 	sumDigits = 8
@@ -26,7 +26,7 @@ func Write(l Lock) (text string, err api.Errno) {
 func entryLines(l Lock) string {
 	var lines strings.Builder
 	for _, e := range l {
-		lines.WriteString(e.Name + separator + e.Ver + lineEnd)
+		lines.WriteString(e.Name + separator + e.Ver + split.LineEnd)
 	}
 	return lines.String()
 }
@@ -34,7 +34,7 @@ func entryLines(l Lock) string {
 // sumLine returns the line that closes a text of these lines.
 func sumLine(lines string) string {
 	digits := strconv.FormatUint(uint64(Sum(lines)), 16)
-	return sumWord + separator + strings.Repeat("0", sumDigits-len(digits)) + digits + lineEnd
+	return sumWord + separator + strings.Repeat("0", sumDigits-len(digits)) + digits + split.LineEnd
 }
 
 // Read reads what Write writes, and nothing else. With an error it tells the
@@ -47,11 +47,11 @@ func Read(s string) (l Lock, line int, err api.Errno) {
 // read panics with a line and an api.Errno if s is no text that Write writes.
 func read(s string) Lock {
 	fault.Require(len(s) <= api.MaxText, api.ErrLong)
-	fault.Require(strings.HasSuffix(s, lineEnd), api.ErrForm)
+	fault.Require(strings.HasSuffix(s, split.LineEnd), api.ErrForm)
 	entries, last := cutLastLine(s)
-	fault.RequireAt(last == sumLine(entries), strings.Count(entries, lineEnd), api.ErrSum)
+	fault.RequireAt(last == sumLine(entries), strings.Count(entries, split.LineEnd), api.ErrSum)
 	var l Lock
-	for i, line := range linesOf(entries) {
+	for i, line := range split.Lines(entries) {
 		l = append(l, entryOf(line, i))
 	}
 	requireLock(l) // the index of an entry is the number of its line
@@ -61,13 +61,8 @@ func read(s string) Lock {
 // cutLastLine splits s, which has a line end as its last byte, ahead of its last
 // line.
 func cutLastLine(s string) (before, last string) {
-	start := strings.LastIndex(strings.TrimSuffix(s, lineEnd), lineEnd) + 1
+	start := strings.LastIndex(strings.TrimSuffix(s, split.LineEnd), split.LineEnd) + 1
 	return s[:start], s[start:]
-}
-
-func linesOf(s string) []string {
-	lines := strings.Split(s, lineEnd)
-	return lines[:len(lines)-1] // what is left after the last line's end is no line
 }
 
 // entryOf panics with number and an api.Errno if line is not of two words.

@@ -5,10 +5,10 @@ import (
 
 	"manciple/api"
 	"manciple/fault"
+	"manciple/split"
 )
 
 const (
-	lineEnd   = "\n"
 	separator = ": "
 	maxKey    = 16
 )
@@ -16,9 +16,9 @@ const (
 // parse panics with a line and an api.Errno if s is no text of stanzas.
 func parse(s string) []Stanza {
 	fault.Require(len(s) <= api.MaxText, api.ErrLong)
-	fault.Require(s == "" || strings.HasSuffix(s, lineEnd), api.ErrForm)
+	fault.Require(s == "" || strings.HasSuffix(s, split.LineEnd), api.ErrForm)
 	var d draft
-	lines := linesOf(s)
+	lines := split.Lines(s)
 	for i, line := range lines {
 		if line == "" {
 			fault.RequireAt(len(d.last) > 0 && i < len(lines)-1, i, api.ErrForm)
@@ -29,11 +29,6 @@ func parse(s string) []Stanza {
 	}
 	d.end()
 	return d.ended
-}
-
-func linesOf(s string) []string {
-	lines := strings.Split(s, lineEnd)
-	return lines[:len(lines)-1] // what is left after the last line's end is no line
 }
 
 // draft holds the stanzas that have ended, and the last one, to which fields
