@@ -12,10 +12,10 @@ import (
 	"manciple/ask"
 	"manciple/atom"
 	"manciple/lock"
-	"manciple/pkg"
 	"manciple/repo"
 	"manciple/rng"
 	"manciple/rule"
+	"manciple/sample"
 )
 
 var numbers = []int{0, 1, 2, 3, 4, 5, 6, -1, -2, 64, math.MaxInt, math.MinInt}
@@ -35,7 +35,7 @@ func no(t *testing.T, x rule.Rule, r repo.Repo, l []ask.Ask) {
 }
 
 func TestP1RulesThatAreNone(t *testing.T) {
-	r, l := mixed()
+	r, l := sample.Mixed()
 	rules := rule.All(r, l)
 	for _, kind := range numbers {
 		for _, p := range numbers {
@@ -56,7 +56,7 @@ func TestP1RulesThatAreNone(t *testing.T) {
 }
 
 func TestP1SetsThatAreNone(t *testing.T) {
-	r, l := mixed()
+	r, l := sample.Mixed()
 	for _, x := range rule.All(r, l) {
 		for _, i := range numbers {
 			for _, k := range numbers {
@@ -70,25 +70,16 @@ func TestP1SetsThatAreNone(t *testing.T) {
 }
 
 func TestP1AnyPackagesAndRequests(t *testing.T) {
-	texts := []string{"", "a", "A", "1", "01", "x", " ", "\n", "\xff", strings.Repeat("1", 1<<12)}
-	for _, name := range texts {
-		for _, v := range texts {
-			for _, kind := range numbers {
-				a := atom.Atom{Name: name, Range: rng.Range{{Lo: v, HiIn: true}, {Hi: v, LoIn: true}, {}, {}}}
-				p := pkg.Pkg{Name: name, Ver: v, Depends: []pkg.Dep{nil, {a}}, Conflicts: []atom.Atom{{}, a}, Provides: []pkg.Give{{Name: name, Ver: v}}}
-				r, l := slices.Repeat(repo.Repo{p}, 3), []ask.Ask{{Kind: kind, Atom: a}}
-				k := lock.Lock{{Name: name, Ver: v}, {Name: name}}
-				for _, x := range rule.All(r, l) {
-					rule.Holds(x, r, k, l, []int{0, 1, 2})
-					rule.Text(x, r, l)
-				}
-			}
+	for _, g := range sample.Wild() {
+		for _, x := range rule.All(g.Repo, g.Asks) {
+			rule.Holds(x, g.Repo, g.Lock, g.Asks, g.Set)
+			rule.Text(x, g.Repo, g.Asks)
 		}
 	}
 }
 
 func TestP1RequestsThatAreNone(t *testing.T) {
-	r, _ := mixed()
+	r, _ := sample.Mixed()
 	l := []ask.Ask{{}, {Kind: 5, Atom: atom.Atom{Name: "a", Range: rng.All()}}, {Kind: -1}, {Kind: math.MinInt}}
 	for at := range l {
 		no(t, rule.Rule{Kind: rule.Asked, At: at}, r, l)
@@ -101,72 +92,18 @@ func TestP1RequestsThatAreNone(t *testing.T) {
 	}
 }
 
-// spaced returns copies of the arguments in which every list has something
-// beyond its end.
-func spaced(r repo.Repo, k lock.Lock, l []ask.Ask) (repo.Repo, lock.Lock, []ask.Ask) {
-	r, k, l = slices.Clone(r), slices.Clone(k), slices.Clone(l)
-	for i := range r {
-		p := &r[i]
-		p.Depends = slices.Clone(p.Depends)
-		for n := range p.Depends {
-			p.Depends[n] = spacedAtoms(p.Depends[n])
-		}
-		p.Depends = beyond(p.Depends, pkg.Dep{{Name: "spare"}})
-		p.Conflicts = beyond(spacedAtoms(p.Conflicts), atom.Atom{Name: "spare"})
-		p.Provides = beyond(p.Provides, pkg.Give{Name: "spare"})
-	}
-	for i := range l {
-		l[i].Atom.Range = beyond(l[i].Atom.Range, rng.Span{Lo: "spare"})
-	}
-	return beyond(r, pkg.Pkg{Name: "spare"}), beyond(k, lock.Entry{Name: "spare"}), beyond(l, ask.Ask{Kind: 7})
-}
-
-func spacedAtoms(l []atom.Atom) []atom.Atom {
-	l = slices.Clone(l)
-	for i := range l {
-		l[i].Range = beyond(l[i].Range, rng.Span{Lo: "spare"})
-	}
-	return beyond(l, atom.Atom{Name: "spare"})
-}
-
-func beyond[S ~[]E, E any](l S, spare E) S {
-	return append(slices.Clone(l), spare, spare)[:len(l)]
-}
-
-// wholly writes the arguments with what lies beyond the ends of their lists.
-func wholly(r repo.Repo, k lock.Lock, l []ask.Ask, set []int) string {
-	var s strings.Builder
-	for _, p := range r[:cap(r)] {
-		fmt.Fprint(&s, p, p.Conflicts[:cap(p.Conflicts)], p.Provides[:cap(p.Provides)])
-		for _, d := range p.Depends[:cap(p.Depends)] {
-			for _, a := range d[:cap(d)] {
-				fmt.Fprint(&s, a, a.Range[:cap(a.Range)])
-			}
-		}
-		for _, a := range p.Conflicts {
-			fmt.Fprint(&s, a.Range[:cap(a.Range)])
-		}
-	}
-	for _, a := range l[:cap(l)] {
-		fmt.Fprint(&s, a, a.Atom.Range[:cap(a.Atom.Range)])
-	}
-	fmt.Fprint(&s, k[:cap(k)], set[:cap(set)])
-	return s.String()
-}
-
 func TestP2ArgumentsStayAsTheyAre(t *testing.T) {
-	r, l := mixed()
-	r, k, l := spaced(r, installed("a 1", "z 5"), l)
+	r, l := sample.Mixed()
 	for bits := range 1 << len(r) {
-		set := beyond(subset(bits, len(r)), 77)
-		before := wholly(r, k, l, set)
-		for _, x := range rule.All(r, l) {
-			rule.Holds(x, r, k, l, set)
-			rule.Text(x, r, l)
+		g := sample.Given{Repo: r, Lock: sample.Installed("a 1", "z 5"), Asks: l, Set: sample.Subset(bits, len(r))}.Spaced()
+		before := g.Stretched()
+		for _, x := range rule.All(g.Repo, g.Asks) {
+			rule.Holds(x, g.Repo, g.Lock, g.Asks, g.Set)
+			rule.Text(x, g.Repo, g.Asks)
 		}
-		rule.Set(set, len(r))
-		if after := wholly(r, k, l, set); after != before {
-			t.Fatalf("%s is now %s", before, after)
+		rule.Set(g.Set, len(g.Repo))
+		if after := g.Stretched(); !sample.Same(after, before) {
+			t.Fatalf("%v is now %v", before, after)
 		}
 	}
 }
@@ -178,7 +115,7 @@ func isIn(v, s string) bool {
 }
 
 func TestP2ResultsAreNewMemory(t *testing.T) {
-	r, l := mixed()
+	r, l := sample.Mixed()
 	one, two := rule.All(r, l), rule.All(r, l)
 	for i, x := range one {
 		for _, p := range r {
@@ -202,7 +139,7 @@ func TestP2ResultsAreNewMemory(t *testing.T) {
 }
 
 func TestP2NilIsAsEmpty(t *testing.T) {
-	r, l := mixed()
+	r, l := sample.Mixed()
 	for _, x := range rule.All(r, l) {
 		if rule.Holds(x, r, nil, l, nil) != rule.Holds(x, r, lock.Lock{}, l, []int{}) {
 			t.Errorf("Holds(%v): nil lists are not as empty ones", x)
@@ -213,15 +150,15 @@ func TestP2NilIsAsEmpty(t *testing.T) {
 }
 
 func TestP3SameCallsSameResults(t *testing.T) {
-	r, l := mixed()
-	k := installed("a 1")
+	r, l := sample.Mixed()
+	k := sample.Installed("a 1")
 	var first string
 	for n := range 3 {
 		var s strings.Builder
 		for _, x := range rule.All(r, l) {
 			fmt.Fprintln(&s, x, rule.Text(x, r, l))
 			for bits := range 1 << len(r) {
-				fmt.Fprint(&s, rule.Holds(x, r, k, l, subset(bits, len(r))))
+				fmt.Fprint(&s, rule.Holds(x, r, k, l, sample.Subset(bits, len(r))))
 			}
 		}
 		if n == 0 {

@@ -12,6 +12,7 @@ import (
 	"manciple/repo"
 	"manciple/rng"
 	"manciple/rule"
+	"manciple/sample"
 	"manciple/ver"
 )
 
@@ -21,7 +22,7 @@ func holdHolds(t *testing.T, x rule.Rule, r repo.Repo, k lock.Lock, l []ask.Ask,
 	t.Helper()
 	var got []string
 	for bits := range 1 << len(r) {
-		if set := subset(bits, len(r)); rule.Holds(x, r, k, l, set) {
+		if set := sample.Subset(bits, len(r)); rule.Holds(x, r, k, l, set) {
 			got = append(got, strings.Trim(fmt.Sprint(set), "[]"))
 		}
 	}
@@ -31,21 +32,21 @@ func holdHolds(t *testing.T, x rule.Rule, r repo.Repo, k lock.Lock, l []ask.Ask,
 }
 
 func TestP1001HoldsOne(t *testing.T) {
-	r := packages("a 1", "b 1 / Provides: a", "b 2 / Provides: b = 1", "c 1 / Provides: a; b")
+	r := sample.Packages("a 1", "b 1 / Provides: a", "b 2 / Provides: b = 1", "c 1 / Provides: a; b")
 	one := func(name string) rule.Rule { return rule.Rule{Kind: rule.One, Name: name} }
 	// what is provided does not count
 	all := []string{"", "0", "1", "0 1", "2", "0 2", "1 2", "0 1 2", "3", "0 3", "1 3", "0 1 3", "2 3", "0 2 3", "1 2 3", "0 1 2 3"}
 	holdHolds(t, one("a"), r, nil, nil, all...)
 	holdHolds(t, one("b"), r, nil, nil, "", "0", "1", "0 1", "2", "0 2", "3", "0 3", "1 3", "0 1 3", "2 3", "0 2 3")
 	holdHolds(t, one("c"), r, nil, nil, all...)
-	holdHolds(t, one("a"), packages("a 1", "a 2", "a 3"), nil, nil, "", "0", "1", "2")
+	holdHolds(t, one("a"), sample.Packages("a 1", "a 2", "a 3"), nil, nil, "", "0", "1", "2")
 	if !rule.Holds(one("a"), nil, nil, nil, nil) {
 		t.Error("Holds: the empty set has two packages of a name")
 	}
 }
 
 func TestP1001HoldsNeeds(t *testing.T) {
-	r := packages("a 1 / Depends: b (> 1) or v (= 3); a; a (> 1); w; z; w (>= 0) or a (none)", "b 1", "b 2", "c 1 / Provides: v = 3; w; w = 2")
+	r := sample.Packages("a 1 / Depends: b (> 1) or v (= 3); a; a (> 1); w; z; w (>= 0) or a (none)", "b 1", "b 2", "c 1 / Provides: v = 3; w; w = 2")
 	needs := func(at int) rule.Rule { return rule.Rule{Kind: rule.Needs, Pkg: 0, At: at} }
 	without := []string{"", "1", "2", "1 2", "3", "1 3", "2 3", "1 2 3"}
 	// of the second atom the version that is provided decides, not that of c
@@ -57,14 +58,14 @@ func TestP1001HoldsNeeds(t *testing.T) {
 	holdHolds(t, needs(4), r, nil, nil, without...)
 	holdHolds(t, needs(5), r, nil, nil, "", "1", "2", "1 2", "3", "0 3", "1 3", "0 1 3", "2 3", "0 2 3", "1 2 3", "0 1 2 3")
 	// a name that is provided without a version has none to be in a range
-	holdHolds(t, needs(0), packages("a 1 / Depends: v (>= 0)", "b 1 / Provides: v"), nil, nil, "", "1")
+	holdHolds(t, needs(0), sample.Packages("a 1 / Depends: v (>= 0)", "b 1 / Provides: v"), nil, nil, "", "1")
 	// what it provides itself is enough as well
-	holdHolds(t, needs(0), packages("a 1 / Depends: v (> 1); v (< 2) / Provides: v = 2"), nil, nil, "", "0")
-	holdHolds(t, needs(1), packages("a 1 / Depends: v (> 1); v (< 2) / Provides: v = 2"), nil, nil, "")
+	holdHolds(t, needs(0), sample.Packages("a 1 / Depends: v (> 1); v (< 2) / Provides: v = 2"), nil, nil, "", "0")
+	holdHolds(t, needs(1), sample.Packages("a 1 / Depends: v (> 1); v (< 2) / Provides: v = 2"), nil, nil, "")
 }
 
 func TestP1001HoldsConflict(t *testing.T) {
-	r := packages("a 1 / Conflicts: a; b (> 1); v; v (= 3); a (none); z / Provides: v = 3; z", "a 2", "b 2 / Provides: v", "c 1 / Provides: v = 3")
+	r := sample.Packages("a 1 / Conflicts: a; b (> 1); v; v (= 3); a (none); z / Provides: v = 3; z", "a 2", "b 2 / Provides: v", "c 1 / Provides: v = 3")
 	refuses := func(at int) rule.Rule { return rule.Rule{Kind: rule.Conflict, Pkg: 0, At: at} }
 	all := []string{"", "0", "1", "0 1", "2", "0 2", "1 2", "0 1 2", "3", "0 3", "1 3", "0 1 3", "2 3", "0 2 3", "1 2 3", "0 1 2 3"}
 	// not with itself, but with another version of it
@@ -76,17 +77,17 @@ func TestP1001HoldsConflict(t *testing.T) {
 	holdHolds(t, refuses(4), r, nil, nil, all...)
 	holdHolds(t, refuses(5), r, nil, nil, all...)
 	// the package with the conflict need not be the first
-	holdHolds(t, rule.Rule{Kind: rule.Conflict, Pkg: 1, At: 0}, packages("a 1", "b 1 / Conflicts: x; a"), nil, nil, "", "0", "1", "0 1")
-	holdHolds(t, rule.Rule{Kind: rule.Conflict, Pkg: 1, At: 1}, packages("a 1", "b 1 / Conflicts: x; a"), nil, nil, "", "0", "1")
+	holdHolds(t, rule.Rule{Kind: rule.Conflict, Pkg: 1, At: 0}, sample.Packages("a 1", "b 1 / Conflicts: x; a"), nil, nil, "", "0", "1", "0 1")
+	holdHolds(t, rule.Rule{Kind: rule.Conflict, Pkg: 1, At: 1}, sample.Packages("a 1", "b 1 / Conflicts: x; a"), nil, nil, "", "0", "1")
 }
 
 func TestP1001HoldsInstall(t *testing.T) {
-	r := packages("a 1", "a 2", "b 1 / Provides: v; w = 2")
+	r := sample.Packages("a 1", "a 2", "b 1 / Provides: v; w = 2")
 	asked := func(line string, want ...string) {
 		t.Helper()
-		l := requests("remove x", line, "remove y")
+		l := sample.Requests("remove x", line, "remove y")
 		// what is installed has no say
-		for _, k := range []lock.Lock{nil, installed("a 1", "b 1", "v 1"), installed("a 9")} {
+		for _, k := range []lock.Lock{nil, sample.Installed("a 1", "b 1", "v 1"), sample.Installed("a 9")} {
 			holdHolds(t, rule.Rule{Kind: rule.Asked, At: 1}, r, k, l, want...)
 		}
 	}
@@ -114,28 +115,28 @@ func TestP1001HoldsInstall(t *testing.T) {
 }
 
 func TestP1001HoldsUpgrade(t *testing.T) {
-	r := packages("a 9", "a 10", "b 1 / Provides: a = 99")
+	r := sample.Packages("a 9", "a 10", "b 1 / Provides: a = 99")
 	for _, c := range []struct {
 		k    lock.Lock
 		want []string
 	}{
 		{nil, []string{"0", "1", "0 1", "0 2", "1 2", "0 1 2"}},
-		{installed("b 9"), []string{"0", "1", "0 1", "0 2", "1 2", "0 1 2"}},
-		{installed("a 8", "b 1"), []string{"0", "1", "0 1", "0 2", "1 2", "0 1 2"}},
-		{installed("a 9~1"), []string{"0", "1", "0 1", "0 2", "1 2", "0 1 2"}},
+		{sample.Installed("b 9"), []string{"0", "1", "0 1", "0 2", "1 2", "0 1 2"}},
+		{sample.Installed("a 8", "b 1"), []string{"0", "1", "0 1", "0 2", "1 2", "0 1 2"}},
+		{sample.Installed("a 9~1"), []string{"0", "1", "0 1", "0 2", "1 2", "0 1 2"}},
 		// one of the packages with the name is enough
-		{installed("a 9"), []string{"1", "0 1", "1 2", "0 1 2"}},
-		{installed("a 9-1"), []string{"1", "0 1", "1 2", "0 1 2"}},
-		{installed("a 10~0"), []string{"1", "0 1", "1 2", "0 1 2"}},
-		{installed("a 10"), nil},
-		{installed("a 10-1"), nil},
-		{installed("a 11"), nil},
-		{installed("a 1:0"), nil},
+		{sample.Installed("a 9"), []string{"1", "0 1", "1 2", "0 1 2"}},
+		{sample.Installed("a 9-1"), []string{"1", "0 1", "1 2", "0 1 2"}},
+		{sample.Installed("a 10~0"), []string{"1", "0 1", "1 2", "0 1 2"}},
+		{sample.Installed("a 10"), nil},
+		{sample.Installed("a 10-1"), nil},
+		{sample.Installed("a 11"), nil},
+		{sample.Installed("a 1:0"), nil},
 	} {
-		holdHolds(t, rule.Rule{Kind: rule.Asked, At: 0}, r, c.k, requests("upgrade a"), c.want...)
+		holdHolds(t, rule.Rule{Kind: rule.Asked, At: 0}, r, c.k, sample.Requests("upgrade a"), c.want...)
 	}
-	holdHolds(t, rule.Rule{Kind: rule.Asked, At: 0}, r, installed("z 1"), requests("upgrade z"))
-	holdHolds(t, rule.Rule{Kind: rule.Asked, At: 0}, packages("a 1", "a 2:0", "b 0"), installed("a 1:9"), requests("upgrade a"), "1", "0 1", "1 2", "0 1 2")
+	holdHolds(t, rule.Rule{Kind: rule.Asked, At: 0}, r, sample.Installed("z 1"), sample.Requests("upgrade z"))
+	holdHolds(t, rule.Rule{Kind: rule.Asked, At: 0}, sample.Packages("a 1", "a 2:0", "b 0"), sample.Installed("a 1:9"), sample.Requests("upgrade a"), "1", "0 1", "1 2", "0 1 2")
 }
 
 // holdsByItsWords does what P1001 says of Holds, word by word, for valid
@@ -200,59 +201,14 @@ func holdsByItsWords(x rule.Rule, r repo.Repo, k lock.Lock, l []ask.Ask, set []i
 	return x.Kind == rule.Conflict
 }
 
-// drawn returns a repository, a lockfile and requests by chance.
-func drawn(random *rand.Rand) (repo.Repo, lock.Lock, []ask.Ask) {
-	oneOf := func(l ...string) string { return l[random.Intn(len(l))] }
-	name := func() string { return oneOf("a", "b", "c", "v", "w") }
-	version := func() string { return oneOf("0", "1", "2", "10", "1~1", "1-1", "1:0") }
-	about := func() string {
-		return name() + oneOf("", " (none)", " (= "+version()+")", " (!= "+version()+")", " (< "+version()+")", " (>= "+version()+")")
-	}
-	list := func(one func() string, between string) string {
-		l := []string{one()}
-		for len(l) < 4 && random.Intn(2) > 0 {
-			l = append(l, one())
-		}
-		return strings.Join(l, between)
-	}
-	stanzas := map[string]string{}
-	for range random.Intn(6) {
-		title := name() + " " + version()
-		stanzas[title] = title
-		if random.Intn(2) > 0 {
-			stanzas[title] += " / Depends: " + list(func() string { return list(about, " or ") }, "; ")
-		}
-		if random.Intn(2) > 0 {
-			stanzas[title] += " / Conflicts: " + list(about, "; ")
-		}
-		if random.Intn(2) > 0 {
-			stanzas[title] += " / Provides: " + list(func() string { return name() + oneOf("", " = "+version()) }, "; ")
-		}
-	}
-	var l []string
-	for _, s := range stanzas {
-		l = append(l, s)
-	}
-	var entries, lines []string
-	for _, n := range []string{"a", "b", "c", "v"} {
-		if random.Intn(2) > 0 {
-			entries = append(entries, n+" "+version())
-		}
-	}
-	for range random.Intn(5) {
-		lines = append(lines, oneOf("install "+about(), "remove "+name(), "upgrade "+name(), "pin "+about()))
-	}
-	return packages(l...), installed(entries...), requests(lines...)
-}
-
 func TestP1001HoldsByItsWords(t *testing.T) {
 	random := rand.New(rand.NewSource(10))
 	held, broken := map[int]int{}, map[int]int{}
 	for range 2000 {
-		r, k, l := drawn(random)
+		r, k, l := sample.Drawn(random.Intn)
 		for _, x := range rule.All(r, l) {
 			for bits := range 1 << len(r) {
-				set := subset(bits, len(r))
+				set := sample.Subset(bits, len(r))
 				want := holdsByItsWords(x, r, k, l, set)
 				if rule.Holds(x, r, k, l, set) != want {
 					index, _ := repo.Print(r)
@@ -274,8 +230,8 @@ func TestP1001HoldsByItsWords(t *testing.T) {
 }
 
 func TestP1001HoldsAtTheLimits(t *testing.T) {
-	r, l := full()
-	set := subset(-1, len(r))
+	r, l := sample.Full()
+	set := sample.Subset(-1, len(r))
 	for _, x := range rule.All(r, l) {
 		want := x.Kind == rule.One || x.Kind == rule.Conflict
 		if rule.Holds(x, r, nil, l, set) != want {

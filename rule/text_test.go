@@ -12,6 +12,7 @@ import (
 	"manciple/pkg"
 	"manciple/repo"
 	"manciple/rule"
+	"manciple/sample"
 )
 
 func holdTexts(t *testing.T, r repo.Repo, l []ask.Ask, want ...string) {
@@ -26,7 +27,7 @@ func holdTexts(t *testing.T, r repo.Repo, l []ask.Ask, want ...string) {
 }
 
 func TestP1002Text(t *testing.T) {
-	r, l := mixed()
+	r, l := sample.Mixed()
 	holdTexts(t, r, l,
 		"only one a",
 		"only one b",
@@ -47,8 +48,8 @@ func TestP1002Text(t *testing.T) {
 
 func TestP1002TextIsCanonical(t *testing.T) {
 	holdTexts(t,
-		packages("gcc 1:02-3 / Depends: as (!= 01) or ld (>= 2 | = 1.0); libc (none) / Conflicts: libc (> 1 & < 3)"),
-		requests("install a (>= 1 | = 0)", "pin a (>= 1 & < 1)", "pin z-9", "install a (< 2 | >= 2)"),
+		sample.Packages("gcc 1:02-3 / Depends: as (!= 01) or ld (>= 2 | = 1.0); libc (none) / Conflicts: libc (> 1 & < 3)"),
+		sample.Requests("install a (>= 1 | = 0)", "pin a (>= 1 & < 1)", "pin z-9", "install a (< 2 | >= 2)"),
 		"only one gcc",
 		"gcc 1:2-3 needs as (< 1 | > 1) or ld (= 1.0 | >= 2)",
 		"gcc 1:2-3 needs libc (none)",
@@ -62,8 +63,8 @@ func TestP1002TextIsCanonical(t *testing.T) {
 
 func TestP1002TextOfNamesThatAreWordsOfIt(t *testing.T) {
 	holdTexts(t,
-		packages("asked 1 / Depends: or or or; needs", "only 1 / Depends: one / Conflicts: refuses", "or 1"),
-		requests("install needs", "remove install"),
+		sample.Packages("asked 1 / Depends: or or or; needs", "only 1 / Depends: one / Conflicts: refuses", "or 1"),
+		sample.Requests("install needs", "remove install"),
 		"only one asked",
 		"only one only",
 		"only one or",
@@ -93,7 +94,7 @@ func TestP1002OnlyEqualPartsHaveEqualTexts(t *testing.T) {
 	random := rand.New(rand.NewSource(1002))
 	equal := 0
 	for range 500 {
-		r, _, l := drawn(random)
+		r, _, l := sample.Drawn(random.Intn)
 		rules := rule.All(r, l)
 		parts := map[string]string{}
 		for _, x := range rules {
@@ -116,7 +117,7 @@ func TestP1002OnlyEqualPartsHaveEqualTexts(t *testing.T) {
 func TestP1002TextByTheLayersBelow(t *testing.T) {
 	random := rand.New(rand.NewSource(12))
 	for range 500 {
-		r, _, l := drawn(random)
+		r, _, l := sample.Drawn(random.Intn)
 		for _, x := range rule.All(r, l) {
 			p := pkg.Pkg{}
 			if len(r) > 0 {
