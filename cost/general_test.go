@@ -71,20 +71,13 @@ func TestP2ArgumentsStayAsTheyAre(t *testing.T) {
 	}
 }
 
-// spill writes over l and over what lies beyond its end.
-func spill(l []int) {
-	for i := range l[:cap(l)] {
-		l[:cap(l)][i] = -9
-	}
-}
-
 func TestP2ResultsAreNewMemory(t *testing.T) {
 	r, k := example()
 	set := []int{3, 5, 6}
 	ranks, one := cost.Ranks(r), cost.Of(r, k, set)
 	other := cost.Of(r, k, set)
-	spill(ranks)
-	spill(one)
+	sample.Spill(ranks, -9)
+	sample.Spill(one, -9)
 	if want := []int{0, 1, 1, 1, 1, 3, 0, 0}; !slices.Equal(other, want) || !slices.Equal(set, []int{3, 5, 6}) {
 		t.Errorf("Of %v: %v, though only other results were written over", set, other)
 	}

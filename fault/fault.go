@@ -24,6 +24,12 @@ func RequireAt(holds bool, place int, err api.Errno) {
 	}
 }
 
+// Element returns element i of l, and panics with ErrArg if l has none.
+func Element[E any](l []E, i int) E {
+	Require(0 <= i && i < len(l), api.ErrArg)
+	return l[i]
+}
+
 // Raised returns the error with which a panic was raised, OK if there was no
 // panic. By P1 no panic leaves a package, and what was not read to its end must
 // not pass for good: any other panic is answered by the error other.

@@ -2,6 +2,7 @@ package fault_test
 
 import (
 	"errors"
+	"math"
 	"testing"
 
 	"manciple/api"
@@ -48,6 +49,25 @@ func TestRequire(t *testing.T) {
 		if place, err := fault.RaisedAt(recovered, api.ErrForm); place != c.place || err != c.err {
 			t.Errorf("RaisedAt: %d, %v; want %d, %v", place, err, c.place, c.err)
 		}
+	}
+}
+
+func TestElement(t *testing.T) {
+	l := []string{"a", "b", "c"}
+	for i, want := range l {
+		if got := fault.Element(l, i); got != want {
+			t.Errorf("Element %d: %q; want %q", i, got, want)
+		}
+	}
+	for _, i := range []int{-1, 3, 4, math.MaxInt, math.MinInt} {
+		recovered := recoveredFrom(func() { fault.Element(l, i) })
+		if err := fault.Raised(recovered, api.ErrForm); err != api.ErrArg {
+			t.Errorf("Element %d: %v; want %v", i, err, api.ErrArg)
+		}
+	}
+	recovered := recoveredFrom(func() { fault.Element(l[:2], 2) })
+	if err := fault.Raised(recovered, api.ErrForm); err != api.ErrArg {
+		t.Errorf("Element beyond the end of a list with room: %v; want %v", err, api.ErrArg)
 	}
 }
 

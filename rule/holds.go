@@ -34,7 +34,7 @@ func holds(x Rule, k lock.Lock, l []ask.Ask, c chosen) bool {
 		a := conflictOf(x, c.all)
 		return !c.has(x.Pkg) || !c.without(x.Pkg).some(meets(a))
 	case Asked:
-		return grants(element(l, x.At), k, c)
+		return grants(fault.Element(l, x.At), k, c)
 	}
 	panic(api.ErrArg)
 }

@@ -1,7 +1,6 @@
 package rule
 
 import (
-	"manciple/api"
 	"manciple/atom"
 	"manciple/fault"
 	"manciple/pkg"
@@ -10,13 +9,11 @@ import (
 
 // dependencyOf panics with an api.Errno if there is no such package, or if it
 // has no such dependency.
-func dependencyOf(x Rule, r repo.Repo) pkg.Dep { return element(element(r, x.Pkg).Depends, x.At) }
+func dependencyOf(x Rule, r repo.Repo) pkg.Dep {
+	return fault.Element(fault.Element(r, x.Pkg).Depends, x.At)
+}
 
 // conflictOf is dependencyOf for a conflict.
-func conflictOf(x Rule, r repo.Repo) atom.Atom { return element(element(r, x.Pkg).Conflicts, x.At) }
-
-// element panics with an api.Errno if l has no element i.
-func element[E any](l []E, i int) E {
-	fault.Require(0 <= i && i < len(l), api.ErrArg)
-	return l[i]
+func conflictOf(x Rule, r repo.Repo) atom.Atom {
+	return fault.Element(fault.Element(r, x.Pkg).Conflicts, x.At)
 }

@@ -29,14 +29,14 @@ func textOf(x Rule, r repo.Repo, l []ask.Ask) string {
 	case Conflict:
 		return title(x, r) + " refuses " + atom.Text(conflictOf(x, r))
 	case Asked:
-		return "asked " + requestText(element(l, x.At))
+		return "asked " + requestText(fault.Element(l, x.At))
 	}
 	panic(api.ErrArg)
 }
 
 // title panics with an api.Errno if there is no such package.
 func title(x Rule, r repo.Repo) string {
-	p := element(r, x.Pkg)
+	p := fault.Element(r, x.Pkg)
 	return p.Name + " " + p.Ver
 }
 

@@ -31,6 +31,15 @@ func Same(a, b Given) bool {
 	return repo.Same(a.Repo, b.Repo) && lock.Same(a.Lock, b.Lock) && ask.Same(a.Asks, b.Asks) && slices.Equal(a.Set, b.Set)
 }
 
+// Spill writes over l and over what lies beyond its end. What has memory in
+// common with l shows it (P2).
+func Spill[S ~[]E, E any](l S, over E) {
+	l = l[:cap(l)]
+	for i := range l {
+		l[i] = over
+	}
+}
+
 // What lies beyond the end of a list is nothing that a call could write there.
 const (
 	spare    = "spare"

@@ -149,6 +149,15 @@ func TestStretchedTellsEveryChange(t *testing.T) {
 	}
 }
 
+func TestSpill(t *testing.T) {
+	l := []int{1, 2, 3, 4, 5}
+	sample.Spill(l[1:2:4], 9)
+	if !slices.Equal(l, []int{1, 9, 9, 9, 5}) {
+		t.Errorf("Spill: %v", l)
+	}
+	sample.Spill([]int(nil), 9)
+}
+
 func TestWildIsRefused(t *testing.T) {
 	l := sample.Wild()
 	for _, g := range l {

@@ -66,27 +66,20 @@ func TestP2ArgumentsStayAsTheyAre(t *testing.T) {
 	}
 }
 
-// spill writes over l and over what lies beyond its end.
-func spill[E any](l []E, over E) {
-	for i := range l[:cap(l)] {
-		l[:cap(l)][i] = over
-	}
-}
-
 func TestP2ResultsAreNewMemory(t *testing.T) {
 	r, l := example()
 	set := []int{0, 1, 2, 3, 4}
 	one, two := valid.Broken(r, nil, l, set), valid.Broken(r, nil, l, set)
-	spill(one, -9)
+	sample.Spill(one, -9)
 	if !slices.Equal(two, []int{0, 1, 5}) || !slices.Equal(set, []int{0, 1, 2, 3, 4}) {
 		t.Errorf("Broken: %v of %v, though only another result was written over", two, set)
 	}
 	want := [][]int{{0, 2}, {0, 3}, {1, 3}, {0, 2, 4}}
 	sets, _ := valid.All(r, nil, l, every(r, l))
 	for i := range sets {
-		spill(sets[i], -9)
+		sample.Spill(sets[i], -9)
 	}
-	spill(sets, nil)
+	sample.Spill(sets, nil)
 	holdAll(t, r, nil, l, every(r, l), want...)
 }
 
@@ -94,7 +87,7 @@ func TestP2SetsOfOneResultShareNoMemory(t *testing.T) {
 	r := numbered(6)
 	for i := range 1 << 6 {
 		sets, _ := valid.All(r, nil, nil, nil)
-		spill(sets[i], -9)
+		sample.Spill(sets[i], -9)
 		for k, other := range sets {
 			if k != i && !slices.Equal(other, sample.Subset(k, 6)) {
 				t.Fatalf("All: set %d is %v after set %d was written over", k, other, i)
