@@ -9,6 +9,7 @@ import (
 
 	"manciple/api"
 	"manciple/cnf"
+	"manciple/sample"
 )
 
 // shown writes as much of a thing as a message can bear.
@@ -160,15 +161,6 @@ func checkAllByItsWords(n int, l []cnf.Clause) (int, api.Errno) {
 	return 0, api.OK
 }
 
-// drawn returns a clause of literals whose variables are from low to high.
-func drawn(random *rand.Rand, most, low, high int) cnf.Clause {
-	var c cnf.Clause
-	for range random.Intn(most + 1) {
-		c = append(c, (low+random.Intn(high-low+1))*(1-2*random.Intn(2)))
-	}
-	return c
-}
-
 func TestP1301CheckAndCheckAllByTheirWords(t *testing.T) {
 	random := rand.New(rand.NewSource(1301))
 	told := map[api.Errno]int{}
@@ -176,9 +168,9 @@ func TestP1301CheckAndCheckAllByTheirWords(t *testing.T) {
 		n := random.Intn(12) - 1
 		var l []cnf.Clause
 		for range random.Intn(6) {
-			c := drawn(random, 5, 1, max(1, n))
+			c := sample.Clause(random.Intn, 5, 1, max(1, n))
 			if random.Intn(10) == 0 {
-				c = drawn(random, 5, 0, n+2)
+				c = sample.Clause(random.Intn, 5, 0, n+2)
 			}
 			if random.Intn(50) == 0 {
 				c = append(c, make(cnf.Clause, 254+random.Intn(4))...)
@@ -195,19 +187,6 @@ func TestP1301CheckAndCheckAllByTheirWords(t *testing.T) {
 			t.Errorf("%v came up %d times only", err, told[err])
 		}
 	}
-}
-
-// models returns all ways in which n variables can be true.
-func models(n int) [][]bool {
-	l := [][]bool{nil}
-	for range n {
-		var longer [][]bool
-		for _, m := range l {
-			longer = append(longer, append(slices.Clone(m), false), append(slices.Clone(m), true))
-		}
-		l = longer
-	}
-	return l
 }
 
 func holdHolds(t *testing.T, c cnf.Clause, m []bool, want bool) {
@@ -245,7 +224,7 @@ func TestP1301Holds(t *testing.T) {
 
 func TestP1301HoldsBeyondTheModel(t *testing.T) {
 	for n := range 5 {
-		for _, m := range models(n) {
+		for _, m := range sample.Models(n) {
 			for _, lit := range []int{0, n + 1, -n - 1, n + 2, -n - 2, 256, -256, 1 << 32, -1 << 32, math.MaxInt, -math.MaxInt, math.MinInt} {
 				holdHolds(t, cnf.Clause{lit}, m, false)
 				holdHolds(t, cnf.Clause{0, lit, lit, -lit}, m, false)
@@ -274,29 +253,10 @@ func holdsByItsWords(c cnf.Clause, m []bool) bool {
 	return false
 }
 
-// clauses returns all clauses of at most most literals of the variables 1 to n.
-func clauses(n, most int) []cnf.Clause {
-	l := []cnf.Clause{nil}
-	last := l
-	for range most {
-		var longer []cnf.Clause
-		for _, c := range last {
-			for lit := -n; lit <= n; lit++ {
-				if lit != 0 {
-					longer = append(longer, append(slices.Clone(c), lit))
-				}
-			}
-		}
-		l = append(l, longer...)
-		last = longer
-	}
-	return l
-}
-
 func TestP1301HoldsByItsWords(t *testing.T) {
-	for _, c := range clauses(3, 4) {
+	for _, c := range sample.Clauses(3, 4) {
 		for n := range 4 {
-			for _, m := range models(n) {
+			for _, m := range sample.Models(n) {
 				holdHolds(t, c, m, holdsByItsWords(c, m))
 			}
 		}
@@ -349,9 +309,9 @@ func TestP1301FirstByItsWords(t *testing.T) {
 	for range 5000 {
 		var l []cnf.Clause
 		for range random.Intn(6) {
-			l = append(l, drawn(random, 4, 0, 5))
+			l = append(l, sample.Clause(random.Intn, 4, 0, 5))
 		}
-		for _, m := range models(random.Intn(5)) {
+		for _, m := range sample.Models(random.Intn(5)) {
 			want := firstByItsWords(l, m)
 			holdFirst(t, l, m, want)
 			told[want]++
@@ -372,7 +332,7 @@ func TestP1301Same(t *testing.T) {
 	}
 	for i, a := range different {
 		for k, b := range different {
-			if cnf.Same(a, twin(b)) != (i == k) {
+			if cnf.Same(a, sample.SpacedClauses(b)) != (i == k) {
 				t.Errorf("Same(%s, %s): %v", shown(a), shown(b), i != k)
 			}
 		}
@@ -380,13 +340,4 @@ func TestP1301Same(t *testing.T) {
 	if !cnf.Same(nil, []cnf.Clause{}) || !cnf.Same([]cnf.Clause{}, nil) || !cnf.Same([]cnf.Clause{nil}, []cnf.Clause{{}}) {
 		t.Error("Same: a nil list is not as an empty one")
 	}
-}
-
-// twin returns a copy that shares no list with l.
-func twin(l []cnf.Clause) []cnf.Clause {
-	l = slices.Clone(l)
-	for i := range l {
-		l[i] = slices.Clone(l[i])
-	}
-	return l
 }

@@ -8,6 +8,7 @@ import (
 
 	"manciple/api"
 	"manciple/cnf"
+	"manciple/sample"
 )
 
 var extremes = []int{0, 1, -1, 2, -2, 256, -256, 257, -257, math.MaxInt, -math.MaxInt, math.MinInt}
@@ -29,7 +30,7 @@ func TestP1AnyLiterals(t *testing.T) {
 				holdCheckAll(t, n, l, index, err)
 				cnf.Text(n, l)
 			}
-			if !cnf.Same(l, twin(l)) || cnf.Same(l, []cnf.Clause{c, nil, {y, 0}}) {
+			if !cnf.Same(l, sample.SpacedClauses(l)) || cnf.Same(l, []cnf.Clause{c, nil, {y, 0}}) {
 				t.Errorf("Same of %v", l)
 			}
 		}
@@ -59,30 +60,12 @@ func TestP1AnyTexts(t *testing.T) {
 	}
 }
 
-// spare stands in the room beyond the end of a list, where no call may write.
-const spare = 77
-
-func spaced(c cnf.Clause) cnf.Clause { return append(slices.Clone(c), spare, spare, spare)[:len(c)] }
-
-// stretched returns a copy of l with what lies beyond the ends of its lists.
-func stretched(l []cnf.Clause) []cnf.Clause {
-	l = slices.Clone(l[:cap(l)])
-	for i, c := range l {
-		l[i] = slices.Clone(c[:cap(c)])
-	}
-	return l
-}
-
 func TestP2ArgumentsStayAsTheyAre(t *testing.T) {
 	for _, given := range [][]cnf.Clause{
 		nil, {nil}, {{1}}, {{3, -1, 2}, {}, {5, 5, -2, 5, -2}, {2, 7, -2, 1}}, {{0, 9}, {math.MinInt, 4, math.MinInt}}, slices.Repeat([]cnf.Clause{{3, 2, 1, 3}}, 100),
 	} {
-		var l []cnf.Clause
-		for _, c := range given {
-			l = append(l, spaced(c))
-		}
-		l = append(l, cnf.Clause{spare}, nil)[:len(given)]
-		before := stretched(l)
+		l := sample.SpacedClauses(given)
+		before := sample.StretchedClauses(l)
 		m := append([]bool{true, false, true}, true, true)[:3]
 		for _, c := range l {
 			cnf.Check(9, c)
@@ -94,7 +77,7 @@ func TestP2ArgumentsStayAsTheyAre(t *testing.T) {
 		cnf.Text(9, l)
 		cnf.Same(l, given)
 		cnf.Same(given, l)
-		if after := stretched(l); !cnf.Same(after, before) {
+		if after := sample.StretchedClauses(l); !cnf.Same(after, before) {
 			t.Errorf("%s is now %s", shown(before), shown(after))
 		}
 		if !slices.Equal(m[:5], []bool{true, false, true, true, true}) {
@@ -103,26 +86,18 @@ func TestP2ArgumentsStayAsTheyAre(t *testing.T) {
 	}
 }
 
-// spill writes over c and over what lies beyond its end.
-func spill(c cnf.Clause) {
-	c = c[:cap(c)]
-	for i := range c {
-		c[i] = -9
-	}
-}
-
 func TestP2NormReturnsNewMemory(t *testing.T) {
 	for _, c := range []cnf.Clause{{}, {1}, {1, -2, 3}, {3, 1}, {4, 4, 4, 4}, {1, -1}, {1, 1, -2, -2, 3}} {
-		c := spaced(c)
-		before := stretched([]cnf.Clause{c})
-		one, _ := cnf.Norm(c)
-		other, _ := cnf.Norm(c)
+		given := sample.SpacedClauses([]cnf.Clause{c})
+		before := sample.StretchedClauses(given)
+		one, _ := cnf.Norm(given[0])
+		other, _ := cnf.Norm(given[0])
 		want := slices.Clone(other)
-		spill(one)
+		sample.Spill(one, -9)
 		if !slices.Equal(other, want) {
 			t.Errorf("Norm(%v): two results share memory", c)
 		}
-		if after := stretched([]cnf.Clause{c}); !cnf.Same(after, before) {
+		if after := sample.StretchedClauses(given); !cnf.Same(after, before) {
 			t.Errorf("Norm(%v): the result lies in the argument", before)
 		}
 	}
@@ -134,14 +109,12 @@ func TestP2ParseReturnsNewMemory(t *testing.T) {
 	_, l, _, _ := cnf.Parse(s)
 	_, other, _, _ := cnf.Parse(s)
 	for i := range l {
-		spill(l[i])
+		sample.Spill(l[i], -9)
 		if !cnf.Same(l[i+1:], want[i+1:]) {
 			t.Fatalf("Parse: clause %d shares memory with another one", i)
 		}
 	}
-	for i := range l[:cap(l)] {
-		l[:cap(l)][i] = cnf.Clause{-9}
-	}
+	sample.Spill(l, cnf.Clause{-9})
 	if !cnf.Same(other, want) {
 		t.Error("Parse: two results share memory")
 	}

@@ -7,6 +7,7 @@ import (
 	"testing"
 
 	"manciple/cnf"
+	"manciple/sample"
 )
 
 func holdNorm(t *testing.T, c, want cnf.Clause, ok bool) {
@@ -88,7 +89,7 @@ func normByItsWords(n int, c cnf.Clause) (cnf.Clause, bool) {
 }
 
 func TestP1301NormByItsWords(t *testing.T) {
-	for _, c := range clauses(3, 5) {
+	for _, c := range sample.Clauses(3, 5) {
 		want, ok := normByItsWords(3, c)
 		holdNorm(t, c, want, ok)
 	}
@@ -96,7 +97,7 @@ func TestP1301NormByItsWords(t *testing.T) {
 	normed := 0
 	for range 10000 {
 		n := 1 + random.Intn(40)
-		c := drawn(random, 12, 1, n)
+		c := sample.Clause(random.Intn, 12, 1, n)
 		want, ok := normByItsWords(n, c)
 		holdNorm(t, c, want, ok)
 		if ok && !slices.Equal(c, want) {
@@ -111,9 +112,9 @@ func TestP1301NormByItsWords(t *testing.T) {
 // TestP1301NormMeansTheSame: where a clause has a form, it holds exactly where
 // its form holds, and where it has none, it always holds.
 func TestP1301NormMeansTheSame(t *testing.T) {
-	for _, c := range clauses(3, 4) {
+	for _, c := range sample.Clauses(3, 4) {
 		normed, ok := cnf.Norm(c)
-		for _, m := range models(3) {
+		for _, m := range sample.Models(3) {
 			if want := !ok || cnf.Holds(normed, m); cnf.Holds(c, m) != want {
 				t.Errorf("%v holds for %v: %v; its form is %v, %v", c, m, !want, normed, ok)
 			}

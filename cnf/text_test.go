@@ -10,6 +10,7 @@ import (
 
 	"manciple/api"
 	"manciple/cnf"
+	"manciple/sample"
 )
 
 // holdText tells whether clauses are written as that text, and the text read as
@@ -79,7 +80,7 @@ func TestP1302TextByItsWords(t *testing.T) {
 		n := 1 + random.Intn(api.MaxVars)
 		var l []cnf.Clause
 		for range random.Intn(10) {
-			l = append(l, drawn(random, 12, 1, n))
+			l = append(l, sample.Clause(random.Intn, 12, 1, n))
 		}
 		holdText(t, n, l, textByItsWords(n, l))
 	}

@@ -42,9 +42,10 @@ func Spill[S ~[]E, E any](l S, over E) {
 
 // What lies beyond the end of a list is nothing that a call could write there.
 const (
-	spare    = "spare"
-	noKind   = -7
-	noNumber = -7
+	spare     = "spare"
+	noKind    = -7
+	noNumber  = -7
+	noLiteral = 7777777
 )
 
 // way is how the lists of something are copied.

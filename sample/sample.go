@@ -1,6 +1,6 @@
-// Package sample is no layer: it makes the repositories, the lockfiles and the
-// requests that the tests of the layers share. It panics where it is given what
-// does not make one.
+// Package sample is no layer: it makes the repositories, the lockfiles, the
+// requests and the clauses that the tests of the layers share. It panics where
+// it is given what does not make one.
 package sample
 
 import (
