@@ -261,20 +261,9 @@ func TestP1501CloseByItsWordsOfAllShortLists(t *testing.T) {
 	}
 }
 
-// drawn returns clauses over up to ten variables, and literals of these. They
-// are such that contradictions are about as frequent as none.
+// drawn returns clauses over up to ten variables, and literals of these.
 func drawn(random *rand.Rand) (int, []cnf.Clause, []int) {
-	n := 1 + random.Intn(10)
-	var l []cnf.Clause
-	for range random.Intn(3 * n) {
-		c := sample.Clause(random.Intn, 4, 1, n)
-		for len(c) < random.Intn(3) {
-			c = append(c, sample.Clause(random.Intn, 2, 1, n)...)
-		}
-		if len(c) > 0 || random.Intn(20) == 0 {
-			l = append(l, c)
-		}
-	}
+	n, l := sample.DrawnClauses(random.Intn)
 	return n, l, sample.Clause(random.Intn, 2, 1, n)
 }
 

@@ -16,6 +16,23 @@ func Clause(below func(n int) int, most, low, high int) cnf.Clause {
 	return c
 }
 
+// DrawnClauses returns clauses of the variables 1 to n, which are at most ten.
+// They are drawn by below, as Clause draws them, and are such that many of them
+// have a model, and many have none.
+func DrawnClauses(below func(n int) int) (n int, l []cnf.Clause) {
+	n = 1 + below(10)
+	for range below(3 * n) {
+		c := Clause(below, 4, 1, n)
+		for len(c) < below(3) {
+			c = append(c, Clause(below, 2, 1, n)...)
+		}
+		if len(c) > 0 || below(20) == 0 {
+			l = append(l, c)
+		}
+	}
+	return n, l
+}
+
 // Clauses returns all clauses of at most most literals of the variables 1 to n.
 func Clauses(n, most int) []cnf.Clause {
 	l := []cnf.Clause{nil}

@@ -3,8 +3,10 @@ package sample_test
 import (
 	"fmt"
 	"math/rand"
+	"slices"
 	"testing"
 
+	"manciple/api"
 	"manciple/cnf"
 	"manciple/sample"
 )
@@ -21,6 +23,30 @@ func TestClause(t *testing.T) {
 	}
 	if got, want := fmt.Sprint(lengths, literals), "map[0:true 1:true 2:true 3:true] map[-4:true -3:true -2:true 2:true 3:true 4:true]"; got != want {
 		t.Errorf("lengths and literals: %s; want %s", got, want)
+	}
+}
+
+func TestDrawnClauses(t *testing.T) {
+	random := rand.New(rand.NewSource(1))
+	counts, withEmpty, withModel := map[int]int{}, 0, 0
+	for range 2000 {
+		n, l := sample.DrawnClauses(random.Intn)
+		counts[n]++
+		if i, err := cnf.CheckAll(n, l); err != api.OK {
+			t.Fatalf("DrawnClauses: %d, %v: clause %d: %v", n, l, i, err)
+		}
+		if slices.ContainsFunc(l, func(c cnf.Clause) bool { return len(c) == 0 }) {
+			withEmpty++
+		}
+		if slices.ContainsFunc(sample.Models(n), func(m []bool) bool { return cnf.First(l, m) < 0 }) {
+			withModel++
+		}
+	}
+	if len(counts) != 10 || counts[1] < 100 || counts[10] < 100 {
+		t.Errorf("variables: %v", counts)
+	}
+	if withEmpty < 20 || withModel < 300 || withModel > 1700 {
+		t.Errorf("%d with an empty clause, %d with a model", withEmpty, withModel)
 	}
 }
 
